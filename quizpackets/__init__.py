@@ -1,0 +1,1 @@
+"""Packets and pairings: packets for the games of a quiz, so that no team hears one twice."""
