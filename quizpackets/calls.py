@@ -1,52 +1,17 @@
-"""The calls: each looks at its refusals in order, does its work, and gives back the numbers it answers."""
+"""The calls on games and packets: each looks at its refusals in order, does its work, and gives back its answer."""
 
 from quizpackets.chains import chain_of, even_out, turn_chain
 from quizpackets.house import NO_PACKET, Game
 from quizpackets.packing import pack_anew, pack_greedily
+from quizpackets.replies import ALIKE, FITS, HEARD_ALREADY, NOT_TWO_SIDES, OUT_OF_RANGE, TOO_MANY_GAMES, WITHOUT_PACKET
+from quizpackets.replies import MOST_GAMES, MOST_PACKETS, MOST_TEAMS
+from quizpackets.replies import as_list, game_row, look_up, packet_row, team_row
+from quizpackets.search import search_packets
 from quizpackets.sides import odd_ring, two_sides
 
 LEAST_TEAMS = 2
-MOST_TEAMS = 10
 LEAST_PACKETS = 1
-MOST_PACKETS = 12
-MOST_GAMES = 30
-
-FITS = 0
-OUT_OF_RANGE = -1
-WITHOUT_PACKET = -3
-NOT_THERE = -4
-ALIKE = -5
-HEARD_ALREADY = -6
-TOO_MANY_GAMES = -7
-NOT_TWO_SIDES = -8
-
-
-def as_list(numbers):
-    """A list as it is answered: how many numbers it has, then they."""
-    return [len(numbers)] + numbers
-
-
-def look_up(told):
-    """Whether rows of a number, how many there may be at most and how many there are fit; else why not."""
-    for row in told:
-        if row[0] < 0 or row[0] >= row[1]:
-            return OUT_OF_RANGE
-    for row in told:
-        if row[0] >= row[2]:
-            return NOT_THERE
-    return FITS
-
-
-def team_row(house, team):
-    return (team, MOST_TEAMS, house.teams)
-
-
-def game_row(house, number):
-    return (number, MOST_GAMES, len(house.games))
-
-
-def packet_row(house, packet):
-    return (packet, MOST_PACKETS, house.packets)
+MOST_STEPS = 2000
 
 
 def call_house(house, teams, packets):
@@ -141,3 +106,27 @@ def call_even(house):
     if house.games_without_packet():
         return [WITHOUT_PACKET]
     return [even_out(house)]
+
+
+def call_hears(house, team):
+    refused = look_up([team_row(house, team)])
+    if refused != FITS:
+        return [refused]
+    return as_list(house.packets_heard(team))
+
+
+def call_uses(house):
+    return house.games_by_packet()
+
+
+def call_games(house):
+    told = [len(house.games)]
+    for game in house.games:
+        told.extend([game.first, game.second, game.packet])
+    return told
+
+
+def call_search(house, packets, steps):
+    if packets < LEAST_PACKETS or packets > MOST_PACKETS or steps < 0 or steps > MOST_STEPS:
+        return [OUT_OF_RANGE]
+    return search_packets(house.games, packets, steps)

@@ -1,4 +1,4 @@
-"""The teams, the packets and the games that one list of calls works on."""
+"""The teams, the packets, the games and the barred pairs that one list of calls works on."""
 
 NO_PACKET = -1
 
@@ -28,6 +28,7 @@ class House:
         self.teams = teams
         self.packets = packets
         self.games = []
+        self.barred = {}
 
     def game_with(self, team, packet):
         """The number of the team's game that has the packet; how many games there are, if none has it."""
@@ -57,3 +58,17 @@ class House:
         """For each packet how many games have it."""
         held = [game.packet for game in self.games]
         return [held.count(packet) for packet in range(self.packets)]
+
+    def packets_heard(self, team):
+        return sorted([game.packet for game in self.games_of(team) if game.packet != NO_PACKET])
+
+    def games_together(self, one, other):
+        return len([game for game in self.games_of(one) if game.has_team(other)])
+
+    def set_bar(self, one, other, barred):
+        self.barred[(min(one, other), max(one, other))] = barred
+
+    def may_be_paired(self, one, other):
+        """Whether two unlike teams have no game together and aren't barred."""
+        barred = self.barred.get((min(one, other), max(one, other)), False)
+        return not barred and self.games_together(one, other) == 0

@@ -46,6 +46,46 @@ def even():
     return [9]
 
 
+def hears(t):
+    return [10, t]
+
+
+def uses():
+    return [11]
+
+
+def all_games():
+    return [12]
+
+
+def search(k, s):
+    return [13, k, s]
+
+
+def bar(a, b, k):
+    return [14, a, b, k]
+
+
+def told_pairs():
+    return [15]
+
+
+def told_set():
+    return [16]
+
+
+def pieces(*teams):
+    return [17, len(teams), *teams]
+
+
+def round_of(r):
+    return [18, r]
+
+
+def met(a, b):
+    return [19, a, b]
+
+
 def line(*calls):
     """Calls, each a list, or lists of such calls, as the one list that is handed in."""
     numbers = []
@@ -85,6 +125,22 @@ def games(*pairs):
 def gives(*packets):
     """Gives for the games 0, 1, ..; where NONE stands the game gets none."""
     return [give(g, p) for g, p in enumerate(packets) if p != NONE]
+
+
+def bars(*both):
+    return [bar(a, b, 1) for a, b in both]
+
+
+def bars_but(n, *both):
+    """Bars all pairs of n teams but these."""
+    kept = [set(pair) for pair in both]
+    return [bar(a, b, 1) for a in range(n) for b in range(a) if {a, b} not in kept]
+
+
+def triples(told):
+    """What games answers, as pairs of teams and their packets."""
+    assert len(told) == 1 + 3 * told[0], told
+    return [tuple(told[k:k + 2]) for k in range(1, len(told), 3)], told[3::3]
 
 
 def packet_of(calls, g, c):

@@ -25,26 +25,59 @@ def told_game(numbers, model, side):
     return [1, a, b]
 
 
-def told_call(numbers, model, side, asked_sides):
+def told_row(numbers, model):
+    """Mostly rising teams; at times with one number out of its order, twice, or of no team."""
+    row = [team for team in range(model.n) if numbers.below(3) == 0]
+    if numbers.below(4) == 0:
+        row.insert(numbers.below(len(row) + 1), number_below(numbers, model.n))
+    return [17, len(row), *row]
+
+
+def packet_call(numbers, model, side):
     kind = numbers.below(100)
     g = number_below(numbers, len(model.games))
-    if kind < 1:
+    if kind < 2:
         return [0, number_below(numbers, 11), number_below(numbers, 13)]
-    if kind < 35:
+    if kind < 38:
         return told_game(numbers, model, side)
-    if kind < 50:
-        return [2, g, number_below(numbers, model.c)]
     if kind < 55:
+        return [2, g, number_below(numbers, model.c)]
+    if kind < 60:
         return [3, g]
-    if kind < 65:
+    if kind < 70:
         return [4, g, number_below(numbers, model.c)]
-    if kind < 77:
+    if kind < 82:
         return [5, g, number_below(numbers, model.c)]
-    if kind < 84:
-        return [6]
-    if kind < 90:
-        return [7] if asked_sides < 20 else [6]
-    return [8] if kind < 95 else [9]
+    return [numbers.one_of((6, 6, 8, 9))]
+
+
+def other_call(numbers, model):
+    kind = numbers.below(100)
+    a, b = number_below(numbers, model.n), number_below(numbers, model.n)
+    if kind < 10:
+        return [10, a]
+    if kind < 22:
+        return [numbers.one_of((11, 12))]
+    if kind < 62:
+        return [14, a, b, numbers.below(4) > 0 if numbers.below(20) else number_below(numbers, 2)]
+    if kind < 78:
+        return told_row(numbers, model)
+    return [18, number_below(numbers, 9)] if kind < 88 else [19, a, b]
+
+
+def searching_call(numbers, model):
+    call = numbers.one_of((7, 13, 13, 15, 16))
+    if call == 13:
+        return [13, number_below(numbers, 13), number_below(numbers, numbers.one_of((20, 60, 300, 2001)))]
+    return [call]
+
+
+def told_call(numbers, model, side, searching_left):
+    kind = numbers.below(100)
+    if kind < 12 and searching_left > 0:
+        return searching_call(numbers, model)
+    call = packet_call(numbers, model, side) if kind < 65 else other_call(numbers, model)
+    return [int(number) for number in call]
 
 
 class AgainstModel(unittest.TestCase):
@@ -54,11 +87,12 @@ class AgainstModel(unittest.TestCase):
         side = [numbers.below(2) for team in range(10)] if numbers.below(3) else None
         calls = [[0, 2 + numbers.below(9), 1 + numbers.below(12)]] if numbers.below(5) else []
         told = [model.answer(call) for call in calls]
-        asked_sides = 0
+        # The model takes its time over many teams.
+        searching_left = 20 if model.n < 8 else 4
         length = 10 + numbers.below(191)
         while len(calls) < length:
-            call = told_call(numbers, model, side, asked_sides)
-            asked_sides += call == [7]
+            call = told_call(numbers, model, side, searching_left)
+            searching_left -= call[0] in (7, 13, 15, 16)
             calls.append(call)
             told.append(model.answer(call))
             packets = [-1 if packet is None else packet for packet in model.packet]
@@ -67,17 +101,22 @@ class AgainstModel(unittest.TestCase):
 
     def test_lines(self):
         seen = {}
+        searched = set()
         for seed in range(400):
             calls, told = self.line(seed)
             self.assertEqual(asked(*calls), told, calls)
             for call, answer in zip(calls, told):
                 key = (call[0], min(answer[0], 0))
                 seen[key] = seen.get(key, 0) + 1
+                if call[0] == 13 and answer[0] >= 0:
+                    searched.add(answer[0])
         # The lines are worth something only if they bring about all there is to see.
-        wanted = [(call, 0) for call in range(10)] + [
+        wanted = [(call, 0) for call in range(20)] + [
             (0, -1), (1, -1), (1, -4), (1, -5), (1, -7), (2, -1), (2, -4), (2, -6), (3, -1), (3, -4), (4, -1), (4, -4),
-            (4, -3), (4, -5), (5, -1), (5, -4), (5, -3), (5, -5), (8, -8), (9, -3)]
+            (4, -3), (4, -5), (5, -1), (5, -4), (5, -3), (5, -5), (8, -8), (9, -3), (10, -1), (10, -4), (13, -1),
+            (14, -1), (14, -4), (14, -5), (17, -2), (18, -1), (18, -4), (19, -1), (19, -4), (19, -5)]
         self.assertEqual([key for key in wanted if key not in seen], [])
+        self.assertEqual(searched, {0, 1, 2})
 
     def told_by_model(self, calls):
         model = Model()

@@ -100,6 +100,43 @@ class Form(unittest.TestCase):
             read = {node.id for node in ast.walk(tree) if isinstance(node, ast.Name)}
             self.assertEqual(read - bound - set(OWN_NAMES), set(), name)
 
+    def drawn(self, tree):
+        return [(node.module.split(".")[-1], alias.name) for node in tree.body if isinstance(node, ast.ImportFrom)
+                for alias in node.names]
+
+    def test_names_are_drawn_from_where_they_are_defined(self):
+        trees = {name[:-3]: tree for name, tree in self.trees()}
+        for name, tree in trees.items():
+            for module, drawn in self.drawn(tree):
+                self.assertNotIn(drawn, [other for from_where, other in self.drawn(trees[module])], name)
+                self.assertIn(drawn, self.bound_names(trees[module]), name)
+
+    def test_no_two_files_draw_from_one_another(self):
+        left = {name[:-3]: {module for module, drawn in self.drawn(tree)} for name, tree in self.trees()}
+        while left:
+            free = [name for name in left if not left[name] & set(left)]
+            self.assertNotEqual(free, [], left)
+            left = {name: left[name] for name in left if name not in free}
+
+    def test_locals_are_not_called_like_imports_or_classes(self):
+        for name, tree in self.trees():
+            taken = {drawn for module, drawn in self.drawn(tree)}
+            taken |= {node.name for node in tree.body if isinstance(node, ast.ClassDef)}
+            for function in [node for node in ast.walk(tree) if isinstance(node, ast.FunctionDef)]:
+                bound = self.bound_names(function) - {function.name}
+                self.assertEqual(taken & bound, set(), f"{name} {function.name}")
+
+    def test_no_name_is_a_method_and_a_value(self):
+        methods = set()
+        given = set()
+        for name, tree in self.trees():
+            for kind in [node for node in tree.body if isinstance(node, ast.ClassDef)]:
+                methods |= {node.name for node in kind.body if isinstance(node, ast.FunctionDef)}
+            given |= {node.attr for node in ast.walk(tree)
+                      if isinstance(node, ast.Attribute) and isinstance(node.ctx, ast.Store)}
+        self.assertEqual(methods & given, set())
+        self.assertEqual(given & {attr for kind in (str, int, list, dict, set, bytes) for attr in vars(kind)}, set())
+
     def test_methods(self):
         own = set()
         for name, tree in self.trees():

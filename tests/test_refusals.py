@@ -2,15 +2,16 @@
 
 import unittest
 
-from support import FAR, anew, asked, chain, even, game, games, give, gives, greedy, house, last, line, sides
-from support import take, turn
+from support import FAR, all_games, anew, asked, bar, chain, even, game, games, give, gives, greedy, hears, house, last
+from support import line, met, pieces, round_of, search, sides, take, told_pairs, told_set, turn, uses
 
-# Four teams, three packets, five games, of which the last one has no packet.
-STATE = [house(4, 3), *games((0, 1), (1, 2), (2, 3), (3, 0), (0, 2)), *gives(0, 1, 0, 1)]
+# Four teams, three packets, five games, of which the last one has no packet, and a barred pair.
+STATE = [house(4, 3), *games((0, 1), (1, 2), (2, 3), (3, 0), (0, 2)), *gives(0, 1, 0, 1), bar(1, 3, 1)]
 # What can be seen of that state, with one more game behind it.
 LOOK = [
+    all_games(), uses(), hears(0), hears(2), met(1, 3), met(0, 1), told_pairs(), told_set(), pieces(),
     *[chain(g, p) for g in range(6) for p in range(4)], sides(), anew(), even(), game(3, 1), greedy(),
-    *[chain(g, p) for g in range(6) for p in range(4)], game(4, 0), take(4), even()]
+    *[chain(g, p) for g in range(6) for p in range(4)], game(4, 0), take(4), even(), all_games(), search(4, 100)]
 
 FULL = [house(4, 3)] + [game(0, 1)] * 30
 
@@ -148,12 +149,91 @@ class Refusals(unittest.TestCase):
         self.check(even(), -3, [house(4, 3), game(0, 1)])
         self.check(even(), -3, [house(9, 3), *games((1, 2), (3, 4), (5, 6), (7, 8)), *gives(0, 0, -1, 0)])
 
+    def test_hears(self):
+        for team in (-1, 10, 11, FAR, -FAR):
+            self.check(hears(team), -1)
+        for team in (4, 9):
+            self.check(hears(team), -4)
+
+    def test_search(self):
+        for k in (0, -1, 13, FAR, -FAR):
+            self.check(search(k, 10), -1)
+            self.check(search(k, 10), -1, [])
+        for s in (-1, 2001, FAR, -FAR):
+            self.check(search(3, s), -1)
+            self.check(search(3, s), -1, [])
+        self.check(search(0, -1), -1)
+
+    def test_search_at_the_edges(self):
+        self.assertEqual(last(*STATE, search(1, 2000)), [0])
+        self.assertEqual(last(*STATE, search(12, 0)), [2])
+        self.assertEqual(last(*STATE, search(12, 2000)), [1, 0, 1, 0, 1, 2])
+
+    def test_bar_out_of_range(self):
+        for team in (-1, 10, 11, FAR, -FAR):
+            self.check(bar(team, 0, 1), -1)
+            self.check(bar(0, team, 1), -1)
+        for k in (-1, 2, FAR, -FAR):
+            self.check(bar(0, 1, k), -1)
+            self.check(bar(1, 3, k), -1)
+
+    def test_bar_no_such_team(self):
+        for team in (4, 9):
+            self.check(bar(team, 0, 1), -4)
+            self.check(bar(0, team, 0), -4)
+
+    def test_bar_alike(self):
+        for team in range(4):
+            self.check(bar(team, team, 1), -5)
+            self.check(bar(team, team, 0), -5)
+
+    def test_bar_order(self):
+        self.check(bar(10, 4, 1), -1)
+        self.check(bar(4, 10, 1), -1)
+        self.check(bar(4, 0, 2), -1)
+        self.check(bar(4, 4, 2), -1)
+        self.check(bar(1, 1, 2), -1)
+        self.check(bar(10, 10, 0), -1)
+        self.check(bar(4, 4, 0), -4)
+
+    def test_pieces(self):
+        for row in ((4,), (0, 4), (1, 0), (2, 2), (-1,), (0, FAR), (-FAR,), (10,), (0, 1, 2, 3, 0)):
+            self.check(pieces(*row), -2)
+
+    def test_round(self):
+        for r in (-1, 9, 10, FAR, -FAR):
+            self.check(round_of(r), -1)
+        for r in range(3, 9):
+            self.check(round_of(r), -4)
+
+    def test_met_out_of_range(self):
+        for team in (-1, 10, 11, FAR, -FAR):
+            self.check(met(team, 0), -1)
+            self.check(met(0, team), -1)
+
+    def test_met_no_such_team(self):
+        for team in (4, 9):
+            self.check(met(team, 0), -4)
+            self.check(met(0, team), -4)
+
+    def test_met_alike(self):
+        for team in range(4):
+            self.check(met(team, team), -5)
+
+    def test_met_order(self):
+        self.check(met(10, 4), -1)
+        self.check(met(4, 10), -1)
+        self.check(met(-1, -1), -1)
+        self.check(met(4, 4), -4)
+
     def test_several_refusals_in_a_row(self):
-        refused = [house(1, 1), game(9, 9), give(29, 0), take(29), chain(0, 0), turn(4, 0), anew(), even()]
+        refused = [house(1, 1), game(9, 9), give(29, 0), take(29), chain(0, 0), turn(4, 0), anew(), even(), hears(7),
+                   search(0, 0), bar(1, 3, 2), pieces(1, 1), round_of(3), met(2, 2)]
+        numbers = [-1, -4, -4, -4, -5, -3, -8, -3, -4, -1, -1, -2, -4, -5]
         told = asked(*STATE, refused, LOOK)
         at = len(asked(*STATE))
-        self.assertEqual(told[at:at + 8], [[-1], [-4], [-4], [-4], [-5], [-3], [-8], [-3]])
-        self.assertEqual(told[at + 8:], asked(*STATE, LOOK)[at:])
+        self.assertEqual(told[at:at + 14], [[number] for number in numbers])
+        self.assertEqual(told[at + 14:], asked(*STATE, LOOK)[at:])
         self.assertLess(len(line(*STATE, refused, LOOK)), 17000)
 
 
